@@ -26,6 +26,11 @@ def primitive(vector):
     return tuple([entry // divisor for entry in vector])
 
 
+def dot(one, other):
+    """The sum of the products of the entries of two vectors."""
+    return sum([ours * theirs for ours, theirs in zip(one, other)])
+
+
 def by_pivots(basis):
     """The dict of the vectors of a reduced basis by their pivots."""
     return {pivot(row): row for row in basis}

@@ -123,10 +123,31 @@ def unrolled(steps):
     return tuple(found)
 
 
+def rounds(steps):
+    """For each execution the pair of the place of its `repeat`, None outside, and the position behind its round."""
+    found = []
+    place = 0
+    for step in steps:
+        if step[0] == "repeat":
+            many = len(step[3])
+            for _ in step[2]:
+                end = len(found) + many
+                found.extend([(place, end)] * many)
+            place += 1 + many
+        else:
+            found.append((None, len(found) + 1))
+            place += 1
+    return tuple(found)
+
+
+def parts(statement):
+    """The `set` and `take` statements that are performed as one step."""
+    return statement[1] if statement[0] == "atomic" else (statement,)
+
+
 def takes(statement):
     """Tells whether a statement other than `repeat` takes."""
-    inner = statement[1] if statement[0] == "atomic" else (statement,)
-    return "take" in [part[0] for part in inner]
+    return "take" in [part[0] for part in parts(statement)]
 
 
 def sends(statement):

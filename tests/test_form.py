@@ -1,6 +1,7 @@
 """The interface as it is listed, and the form of the package's files."""
 
 import ast
+import builtins
 import importlib
 import inspect
 import unittest
@@ -8,11 +9,30 @@ from pathlib import Path
 
 PACKAGE = Path(__file__).resolve().parent.parent / "retrysafe"
 
-# For each file that has landed: its classes with their arguments, properties and methods, and its functions.
+# For each file that has landed: its classes with their arguments, properties, methods and operators.
 INTERFACE = {
-    "spaces": {"Space": ("width vectors=()", "basis width", {"is_within": "other"})},
+    "spaces": {"Space": ("width vectors=()", "basis width", {"is_within": "other"}, "or and invert contains eq len")},
     "jobs": {"Job": ("stores arguments temps steps",
-                     "stores arguments temps steps variables executions places", {"statement": "place"})},
+                     "stores arguments temps steps variables executions places", {"statement": "place"}, "eq len")},
+    "meanings": {"Matrix": ("rows", "rows", {}, "mul eq call")},
+    "marks": {"Marks": ("job places=()", "places job", {"is_within": "other"}, "or and sub contains eq len iter")},
+    "machine": {"Machine": ("job marks values arguments taken=()",
+                            "durable temps here far failures plan taken_count is_ended",
+                            {"step": "", "fail": "", "finish": "", "copy": "", "failing": "positions",
+                             "trial": "positions"}, "irshift eq")},
+    "studies": {"Study": ("job marks failures=None", "labels is_safe moments wrong_runs",
+                          {"space": "far position", "equations": "far position"}, "")},
+}
+# The functions of these files with their arguments.
+FUNCTIONS = {
+    "texts": {"format_job": "job", "parse_job": "text"},
+    "meanings": {"meaning": "job", "plain_run": "job values arguments taken"},
+    "marks": {"passed": "job marks far", "cost": "marks costs=None"},
+    "runs": {"outcome": "job marks values arguments plan taken", "attempts": "job marks values arguments plan taken"},
+    "studies": {"right_choices": "job marks run", "least_failures": "job marks", "harmful": "job marks"},
+    "papers": {"safe_paper": "study", "is_safe_paper": "job marks candidate"},
+    "fewest": {"fewest": "job costs=None failures=None", "shows_fewest": "job marks runs costs=None",
+               "prices": "job costs=None", "purposes": "job marks"},
 }
 
 
@@ -30,7 +50,7 @@ class TestInterface(unittest.TestCase):
     def test_classes_are_defined_in_their_files(self):
         for name, classes in INTERFACE.items():
             module = importlib.import_module("retrysafe." + name)
-            for word, (arguments, properties, methods) in classes.items():
+            for word, (arguments, properties, methods, operators) in classes.items():
                 found = getattr(module, word)
                 self.assertEqual(found.__module__, module.__name__)
                 self.assertEqual(written(found.__init__), arguments)
@@ -38,6 +58,17 @@ class TestInterface(unittest.TestCase):
                     self.assertIsInstance(vars(found)[one], property)
                 for one, told in methods.items():
                     self.assertEqual(written(vars(found)[one]), told)
+                for one in operators.split():
+                    self.assertIn(f"__{one}__", vars(found))
+
+    def test_functions_are_defined_in_their_files(self):
+        for name, functions in FUNCTIONS.items():
+            module = importlib.import_module("retrysafe." + name)
+            for word, arguments in functions.items():
+                found = getattr(module, word)
+                self.assertEqual(found.__module__, module.__name__)
+                self.assertEqual(written(found, 0), arguments)
+                self.assertEqual(inspect.isgeneratorfunction(found), word == "attempts")
 
 
 class TestForm(unittest.TestCase):
@@ -65,6 +96,60 @@ class TestForm(unittest.TestCase):
                 self.assertNotIsInstance(node, ast.Import, path)
                 if isinstance(node, ast.ImportFrom):
                     self.assertTrue(node.module in ("math",) or node.module.startswith("retrysafe."), path)
+
+
+def trees():
+    """The file and the syntax tree of each file."""
+    return [(path, ast.parse(path.read_text())) for path in files()]
+
+
+class TestNames(unittest.TestCase):
+    def test_no_name_is_that_of_a_builtin_a_class_or_an_import(self):
+        for path, tree in trees():
+            taken = set(dir(builtins)) | {node.name for node in tree.body if isinstance(node, ast.ClassDef)}
+            for node in tree.body:
+                if isinstance(node, ast.ImportFrom):
+                    taken.update(alias.name for alias in node.names)
+            for node in ast.walk(tree):
+                if isinstance(node, ast.Name) and isinstance(node.ctx, ast.Store):
+                    self.assertNotIn(node.id, taken, (path, node.lineno))
+                if isinstance(node, ast.arg):
+                    self.assertNotIn(node.arg, taken, (path, node.lineno))
+
+    def test_imported_names_are_used(self):
+        for path, tree in trees():
+            used = {node.id for node in ast.walk(tree) if isinstance(node, ast.Name)}
+            for node in tree.body:
+                if isinstance(node, ast.ImportFrom):
+                    self.assertEqual({alias.name for alias in node.names} - used, set(), path)
+
+    def test_no_attribute_has_the_name_of_a_method_or_a_property(self):
+        methods, properties, attributes = set(), set(), set()
+        for _, tree in trees():
+            for node in ast.walk(tree):
+                if isinstance(node, ast.Attribute) and isinstance(node.ctx, ast.Store):
+                    attributes.add(node.attr)
+                for part in node.body if isinstance(node, ast.ClassDef) else ():
+                    if isinstance(part, ast.FunctionDef):
+                        told = [ast.unparse(one) for one in part.decorator_list]
+                        (properties if "property" in told else methods).add(part.name)
+        self.assertEqual((attributes & methods, attributes & properties, methods & properties), (set(), set(), set()))
+
+    def test_modules_do_not_import_in_circles(self):
+        ahead = {path.stem: {node.module.removeprefix("retrysafe.") for node in tree.body if isinstance(node, ast.ImportFrom)
+                             and node.module.startswith("retrysafe.")} for path, tree in trees()}
+        while ahead:
+            ready = [name for name, needs in ahead.items() if not needs & set(ahead)]
+            self.assertGreater(len(ready), 0, ahead)
+            for name in ready:
+                del ahead[name]
+
+    def test_no_generator_expression_lambda_or_annotation(self):
+        for path, tree in trees():
+            for node in ast.walk(tree):
+                self.assertNotIsInstance(node, (ast.GeneratorExp, ast.Lambda, ast.AnnAssign, ast.Assert, ast.Global), path)
+                if isinstance(node, ast.arg):
+                    self.assertIsNone(node.annotation, path)
 
 
 if __name__ == "__main__":

@@ -5,6 +5,7 @@ from fractions import Fraction
 from math import gcd
 from random import Random
 
+from reference import Told
 from retrysafe.errors import DifferentWidths, InvalidSpace, InvalidVectors, InvalidWidth
 from retrysafe.jobs import Job
 from retrysafe.spaces import Space
@@ -55,15 +56,6 @@ def some_vectors(random, width, most):
             one, other = random.choice(vectors), random.choice(vectors)
             vectors.append(tuple(3 * ours - 2 * theirs for ours, theirs in zip(one, other)))
     return vectors
-
-
-class Told(unittest.TestCase):
-    def assert_raised(self, error, fields, action, *args, **named):
-        with self.assertRaises(error) as caught:
-            action(*args, **named)
-        self.assertIs(type(caught.exception), error)
-        for name, value in fields.items():
-            self.assertIs(getattr(caught.exception, name), value)
 
 
 class TestBasis(Told):
