@@ -56,7 +56,7 @@ class Echelon:
                 return at
         return None
 
-    def vectors(self):
+    def full_lines(self):
         """The list of the lines as lists."""
         size = len(self.order)
         return [[line.get(at, 0) for at in range(size)] for line in list(self.lines.values())]

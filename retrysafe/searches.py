@@ -110,8 +110,8 @@ class Search:
     def vectors(self, far, position):
         """Vectors whose sums of multiples are the space of a state."""
         if position == far:
-            return self.tops[far].vectors()
-        found = self.bottoms[far].vectors()
+            return self.tops[far].full_lines()
+        found = self.bottoms[far].full_lines()
         # A state that no run comes to has nothing that a taken value could add to.
         if len(found) > 0:
             for e in range(position):
