@@ -26,14 +26,17 @@ def is_choice(value, job):
 
 
 class Goal:
-    """What a run without failure of a job means, as equations for the vectors of the ends of runs."""
+    """What a run without failure of a job means, as equations for the vectors of the ends of runs.
 
-    def __init__(self, job):
-        self.many = len(job.variables)
+    `lines` are the rows of its meaning, where this is not that of the job by itself.
+    """
+
+    def __init__(self, job, lines=None):
         self.extra = len(job.arguments)
         self.takers = taking(job)
         self.choices = choices_of(job)
-        self.lines = meaning(job).rows
+        self.lines = meaning(job).rows if lines is None else lines
+        self.many = len(self.lines)
 
     def forms(self, layout, choice):
         """For each durable variable the form that has to be 0 at the end, if these moments are chosen."""

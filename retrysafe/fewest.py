@@ -4,18 +4,10 @@ from retrysafe.checks import check_failures, check_plain_job, is_run
 from retrysafe.choices import Goal
 from retrysafe.errors import InvalidMarks, InvalidRun
 from retrysafe.layouts import Layout
-from retrysafe.marks import Marks, check_costs, check_marks, total_cost
-from retrysafe.refutations import remaining, ruling_out
-from retrysafe.searches import Search, settled
+from retrysafe.marks import Marks, check_costs, check_marks
+from retrysafe.refutations import remaining
+from retrysafe.sieves import Sieve, priced_choices
 from retrysafe.studies import Study
-
-
-def priced_choices(job, costs):
-    """The pairs (cost, places) of all choices of places, in order."""
-    found = [()]
-    for place in range(job.places):
-        found = found + [places + (place,) for places in found]
-    return sorted([(total_cost(places, costs), places) for places in found])
 
 
 def fewest(job, costs=None, failures=None):
@@ -23,16 +15,10 @@ def fewest(job, costs=None, failures=None):
     check_plain_job(job)
     check_costs(job, costs)
     check_failures(failures)
-    goal = Goal(job)
-    runs = []
+    sieve = Sieve(job, [])
     for total, places in priced_choices(job, costs):
-        layout = Layout(job, places)
-        # What ruled out the last places rules out the next ones most often.
-        alive = remaining(goal, layout, runs[::-1], goal.choices)
-        rest, origins = settled(Search(layout), goal, alive, failures)
-        if len(rest) > 0:
-            return total, Marks(job, places), tuple(runs)
-        runs.extend(ruling_out(goal, layout, alive, origins))
+        if sieve.falling(places, failures) is None:
+            return total, Marks(job, places), tuple(sieve.runs)
     # With all places marked every job is safe, so this is never reached.
     return None
 
@@ -64,20 +50,14 @@ def shows_fewest(job, marks, runs, costs=None):
 def prices(job, costs=None):
     """The costs of the cheapest marks against 0, 1, 2 .. failures, up to that against any number."""
     total = fewest(job, costs)[0]
-    goal = Goal(job)
-    runs = []
+    sieve = Sieve(job, [])
     found = []
     for price, places in priced_choices(job, costs):
         if price == total:
             break
-        layout = Layout(job, places)
-        # No run that is known has more failures than the number whose price is looked for.
-        alive = remaining(goal, layout, runs[::-1], goal.choices)
-        search = Search(layout)
-        _, origins = settled(search, goal, alive, None)
-        # These places are safe against all numbers of failures below the level.
-        found.extend([price] * (search.level - len(found)))
-        runs.extend(ruling_out(goal, layout, alive, origins))
+        # No run that is known has more failures than the number whose price is looked for, so places that fall later
+        # are safe against all lower numbers.
+        found.extend([price] * (sieve.falling(places, None) - len(found)))
     return found + [total]
 
 

@@ -19,7 +19,7 @@ def needed(layout, plan):
 
 def padded(layout, origin):
     """The run of an origin, with taken values that suffice with all marks."""
-    values, arguments, plan, taken = origin
+    (values, arguments), plan, taken = origin
     return values, arguments, plan, taken + (0,) * (needed(layout, plan) - len(taken))
 
 
@@ -30,7 +30,7 @@ def scattered(many, ahead):
 
 def varied(layout, origin):
     """A run with the plan of an origin in which all numbers differ, so that it rules out more choices."""
-    plan = origin[2]
+    plan = origin[1]
     behind = layout.many + layout.extra
     return (scattered(layout.many, 0), scattered(layout.extra, layout.many), plan,
             scattered(needed(layout, plan), behind))

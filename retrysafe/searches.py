@@ -3,8 +3,8 @@
 Far only grows, and a failure goes back to position 0. So of all states of runs only two for each far are kept: its
 top, where the position is far, and its bottom, where the position is 0; the others are walked through. At each of the
 two a space grows. What is new there is moved on, once; moving it, instead of the vectors of all runs, is enough as
-moves are linear. Beside what is new stands its origin, the run whose vector brought it up: (values, arguments, plan,
-taken). Its vector is a multiple of what is new plus a sum of multiples of vectors that were there before.
+moves are linear. Beside what is new stands its origin, the run whose vector brought it up: (beginning, plan, taken).
+Its vector is a multiple of what is new plus a sum of multiples of vectors that were there before.
 """
 
 from retrysafe.echelons import Echelon
@@ -15,14 +15,20 @@ _ORDER = ("one", "first", "given", "seen", "kept", "local", "now")
 
 def with_taken(origin, taken):
     """The origin with one more taken value."""
-    values, arguments, plan, before = origin
-    return values, arguments, plan, before + (taken,)
+    beginning, plan, before = origin
+    return beginning, plan, before + (taken,)
 
 
 def with_failure(origin, position):
     """The origin with one more failure."""
-    values, arguments, plan, taken = origin
-    return values, arguments, plan + (position,), taken
+    beginning, plan, taken = origin
+    return beginning, plan + (position,), taken
+
+
+def begun_runs(layout):
+    """The vectors ahead of the first move, each with its origin."""
+    return [(layout.start(values, arguments), ((values, arguments), (), ()))
+            for values, arguments in layout.starts()]
 
 
 def grown(echelon, arrived):
@@ -36,10 +42,14 @@ def grown(echelon, arrived):
 
 
 class Search:
-    """The spaces of the runs with at most so many failures as the level; a level below 0 is ahead of all runs."""
+    """The spaces of the runs with at most so many failures as the level; a level below 0 is ahead of all runs.
 
-    def __init__(self, layout):
+    `begun` is the list of the vectors ahead of the first move, each with its origin.
+    """
+
+    def __init__(self, layout, begun):
         self.layout = layout
+        self.begun = begun
         self.level = -1
         self.is_done = False
         # What is new at the end of the job.
@@ -47,17 +57,20 @@ class Search:
         order = [at for word in _ORDER for at, tag in enumerate(layout.tags) if tag[0] == word]
         self.tops = [Echelon(order) for _ in range(layout.length + 1)]
         self.bottoms = [Echelon(order) for _ in range(layout.length + 1)]
+        # What was new at the bottoms of the fars above 0.
+        self.landed = [[] for _ in range(layout.length + 1)]
         self.pending = [[] for _ in range(layout.length + 1)]
         self.varied = {}
 
     def advance(self):
         """Looks at the runs with one more failure; if they bring up nothing new, the search is done."""
         self.level += 1
-        arrived = self.begun_runs() if self.level == 0 else []
+        arrived = list(self.begun) if self.level == 0 else []
         self.is_done = self.level > 0
         for far in range(self.layout.length + 1):
             fallen = grown(self.bottoms[far], self.pending[far])
             self.pending[far] = []
+            self.landed[far].extend(fallen)
             for vector, origin in fallen:
                 self.is_done = False
                 arrived.extend(self.walked(far, 0, vector, origin))
@@ -66,11 +79,6 @@ class Search:
             for vector, origin in self.fresh:
                 self.note_failure(far, far, vector, origin)
                 arrived.extend(self.climbed(far, vector, origin))
-
-    def begun_runs(self):
-        """The vectors ahead of the first move."""
-        return [(self.layout.start(values, arguments), (values, arguments, (), ()))
-                for values, arguments in self.layout.starts()]
 
     def note_failure(self, far, position, vector, origin):
         """Keeps what a failure makes of a vector for the next level."""

@@ -141,7 +141,9 @@ def rounds(steps):
 
 
 def parts(statement):
-    """The `set` and `take` statements that are performed as one step."""
+    """The `set` and `take` statements that are performed as one step; a `send` has none."""
+    if sends(statement):
+        return ()
     return statement[1] if statement[0] == "atomic" else (statement,)
 
 

@@ -7,7 +7,7 @@ from retrysafe.errors import InvalidFar, InvalidPosition, InvalidRun
 from retrysafe.layouts import Layout, states
 from retrysafe.marks import check_marks
 from retrysafe.refutations import end_vector, ruling_out
-from retrysafe.searches import Search, is_complete, settled
+from retrysafe.searches import Search, begun_runs, is_complete, settled
 from retrysafe.spaces import Space
 from retrysafe.values import is_int
 
@@ -23,7 +23,7 @@ class Study:
         layout = Layout(job, marks.places)
         self._most = failures
         self._layout = layout
-        self._search = Search(layout)
+        self._search = Search(layout, begun_runs(layout))
         alive, origins = settled(self._search, goal, goal.choices, failures)
         self._moments = alive[0] if len(alive) > 0 else None
         self._wrong = () if len(alive) > 0 else tuple(ruling_out(goal, layout, goal.choices, origins))
@@ -92,7 +92,8 @@ def least_failures(job, marks):
     check_plain_job(job)
     check_marks(job, marks)
     goal = Goal(job)
-    search = Search(Layout(job, marks.places))
+    layout = Layout(job, marks.places)
+    search = Search(layout, begun_runs(layout))
     alive, _ = settled(search, goal, goal.choices, None)
     return search.level if len(alive) == 0 else None
 

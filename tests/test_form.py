@@ -22,6 +22,13 @@ INTERFACE = {
                              "trial": "positions"}, "irshift eq")},
     "studies": {"Study": ("job marks failures=None", "labels is_safe moments wrong_runs",
                           {"space": "far position", "equations": "far position"}, "")},
+    "pairs": {"Pair": ("job marks", "labels is_safe wrong_run", {"space": "far one other"}, "")},
+    "networks": {"Network": ("jobs", "jobs variables", {"named": "name", "meaning": "name", "study": "name marks",
+                                                        "fewest": "name marks"}, "eq"),
+                 "NetworkStudy": ("moments ways", "is_safe moments ways", {}, "")},
+    "ledgers": {"Ledger": ("", "", {"begin": "run", "send": "run number", "close": "run", "arrive": "run number",
+                                    "lose": "run number", "forget": "run number", "forgettable": "", "kept": "",
+                                    "danger": "run number"}, "eq")},
 }
 # The functions of these files with their arguments.
 FUNCTIONS = {
@@ -33,6 +40,9 @@ FUNCTIONS = {
     "papers": {"safe_paper": "study", "is_safe_paper": "job marks candidate"},
     "fewest": {"fewest": "job costs=None failures=None", "shows_fewest": "job marks runs costs=None",
                "prices": "job costs=None", "purposes": "job marks"},
+    "pairs": {"pair_outcome": "job marks run", "fewest_for_two": "job costs=None"},
+    "orders": {"exchangeable": "job", "exchanged": "job index", "joinable": "job", "joined": "job index",
+               "orders": "job", "cheapest_form": "job"},
 }
 
 
