@@ -2,6 +2,7 @@
 
 from retrysafe.errors import InvalidArguments, InvalidCount, InvalidJob, InvalidPlan, InvalidTaken, InvalidValues
 from retrysafe.jobs import Job
+from retrysafe.layouts import taking
 from retrysafe.statements import is_row, sends
 from retrysafe.values import is_int, is_vector
 
@@ -63,5 +64,22 @@ def is_run(value, job):
 
 def check_failures(count):
     """Raises the error of what is neither a number of failures nor None."""
-    if count is not None and (not is_int(count) or not 0 <= count <= _MOST_FAILURES):
+    if count is not None:
+        check_limit(count)
+
+
+def check_limit(count):
+    """Raises the error of what is not a number of failures."""
+    if not is_int(count) or not 0 <= count <= _MOST_FAILURES:
         raise InvalidCount(count)
+
+
+def is_takeless_job(value):
+    """Tells whether a value is a job that takes and sends nothing."""
+    return is_plain_job(value) and len(taking(value)) == 0
+
+
+def check_takeless_job(job):
+    """Raises the error of what is not a job that takes and sends nothing."""
+    if not is_takeless_job(job):
+        raise InvalidJob(None)

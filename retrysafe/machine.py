@@ -43,12 +43,12 @@ class Machine:
     @property
     def durable(self):
         """The tuple of the values of the durable variables."""
-        return tuple(self._run.vector[:self._run.layout.many])
+        return self._run.durable_values()
 
     @property
     def temps(self):
         """The tuple of the values of the locals."""
-        return tuple([self._run.vector[at] for at, _ in self._run.layout.dropping])
+        return self._run.local_values()
 
     @property
     def here(self):
@@ -112,10 +112,7 @@ class Machine:
 
     def copy(self):
         """An equal, independent machine, which does not fail by itself."""
-        run = self._run
-        found = Machine(self._marks.job, self._marks, (0,) * run.layout.many, (0,) * run.layout.extra)
-        found._run = run.copy()
-        return found
+        return machine_of(self._marks, self._run.copy())
 
     def failing(self, positions):
         """A context manager for a block in which the attempts fail by themselves at these positions."""
@@ -151,3 +148,15 @@ class Machine:
         """Takes over what a copy did."""
         self._run = ahead._run
         self._left = ahead._left
+
+
+def machine_of(marks, run):
+    """A machine that goes on with a run of a job with marks."""
+    found = Machine(marks.job, marks, run.first_values(), run.given_values())
+    found._run = run
+    return found
+
+
+def run_of(machine):
+    """The marks of a machine, and a copy of its run."""
+    return machine._marks, machine._run.copy()

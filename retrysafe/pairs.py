@@ -1,11 +1,10 @@
 """Pairs: jobs that two runners perform at once."""
 
-from retrysafe.checks import is_plain_job
+from retrysafe.checks import is_takeless_job
 from retrysafe.choices import Goal
 from retrysafe.duets import Duet, is_schedule
 from retrysafe.errors import InvalidFar, InvalidJob, InvalidPosition, InvalidRun
 from retrysafe.flows import Flow, narrowed
-from retrysafe.layouts import taking
 from retrysafe.marks import Marks, check_costs, check_marks
 from retrysafe.sieves import priced_choices
 from retrysafe.spaces import Space
@@ -17,7 +16,7 @@ _MOST_EXECUTIONS = 6
 
 def check_job_for_two(job):
     """Raises the error of what is not a job that two runners may perform."""
-    if not is_plain_job(job) or len(taking(job)) > 0 or len(job) > _MOST_EXECUTIONS:
+    if not is_takeless_job(job) or len(job) > _MOST_EXECUTIONS:
         raise InvalidJob(None)
 
 

@@ -22,6 +22,20 @@ class Run:
         """The tuple of the durable variables' values."""
         return tuple(self.vector[:self.layout.many])
 
+    def local_values(self):
+        """The tuple of the locals' values."""
+        return tuple([self.vector[at] for at, _ in self.layout.dropping])
+
+    def first_values(self):
+        """The tuple of the durable variables' values at the beginning."""
+        many = self.layout.many
+        return tuple(self.vector[many:2 * many])
+
+    def given_values(self):
+        """The tuple of the arguments' values."""
+        begin = 2 * self.layout.many
+        return tuple(self.vector[begin:begin + self.layout.extra])
+
     def seen_values(self):
         """The tuple with the tuple of the values seen for each execution that takes."""
         spots = self.layout.spots
@@ -59,12 +73,16 @@ class Run:
 
     def follow(self, plan):
         """Makes all moves of a plan and of the last attempt."""
+        self.fall(plan)
+        while not self.is_through():
+            self.step()
+
+    def fall(self, plan):
+        """Makes all moves of a plan, up to its last failure."""
         for position in plan:
             while self.spot < position:
                 self.step()
             self.fail()
-        while not self.is_through():
-            self.step()
 
     def copy(self):
         """An equal, independent run."""

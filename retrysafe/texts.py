@@ -1,10 +1,10 @@
 """The texts of jobs."""
 
+from retrysafe.decimals import is_digits
 from retrysafe.errors import InvalidJob, ParseError
 from retrysafe.jobs import Job
 
 _MOST_DIGITS = 100
-_DIGITS = "0123456789"
 
 
 def format_job(job):
@@ -212,11 +212,6 @@ def piece_of(words, at, number):
     if words[at + 1:at + 2] == ["*"] and len(words) > at + 2:
         return factor, words[at + 2], 3
     return factor, None, 1
-
-
-def is_digits(word):
-    """Tells whether a text has digits only, which `int` reads in one way."""
-    return len(word) > 0 and all([letter in _DIGITS for letter in word])
 
 
 def number_of(word, number):

@@ -29,6 +29,10 @@ INTERFACE = {
     "ledgers": {"Ledger": ("", "", {"begin": "run", "send": "run number", "close": "run", "arrive": "run number",
                                     "lose": "run number", "forget": "run number", "forgettable": "", "kept": "",
                                     "danger": "run number"}, "eq")},
+    "changes": {"Change": ("old old_marks new new_marks places", "",
+                           {"ends": "far", "find_wrong": "far word", "outcome": "run"}, "")},
+    "journal": {"Journal": ("machine", "", {"step": "", "fail": "", "finish": "", "machine": "", "text": ""}, "")},
+    "console": {"Console": ("", "", {"answer": "line"}, "")},
 }
 # The functions of these files with their arguments.
 FUNCTIONS = {
@@ -43,6 +47,11 @@ FUNCTIONS = {
     "pairs": {"pair_outcome": "job marks run", "fewest_for_two": "job costs=None"},
     "orders": {"exchangeable": "job", "exchanged": "job index", "joinable": "job", "joined": "job index",
                "orders": "job", "cheapest_form": "job"},
+    "changes": {"repaired": "job marks costs=None"},
+    "campaigns": {"plans": "job failures", "endings": "job marks values arguments failures",
+                  "wrong_share": "job marks values arguments failures"},
+    "journal": {"recover": "job marks values arguments text taken=()",
+                "resume": "job marks values arguments text taken=()"},
 }
 
 
@@ -78,7 +87,7 @@ class TestInterface(unittest.TestCase):
                 found = getattr(module, word)
                 self.assertEqual(found.__module__, module.__name__)
                 self.assertEqual(written(found, 0), arguments)
-                self.assertEqual(inspect.isgeneratorfunction(found), word == "attempts")
+                self.assertEqual(inspect.isgeneratorfunction(found), word in ("attempts", "plans"))
 
 
 class TestForm(unittest.TestCase):
