@@ -43,12 +43,12 @@ class Machine:
     @property
     def durable(self):
         """The tuple of the values of the durable variables."""
-        return self._run.durable_values()
+        return tuple(self._run.vector[:self._run.layout.many])
 
     @property
     def temps(self):
         """The tuple of the values of the locals."""
-        return self._run.local_values()
+        return tuple([self._run.vector[at] for at, _ in self._run.layout.dropping])
 
     @property
     def here(self):
