@@ -12,34 +12,34 @@ class Journal:
         if machine.failures > 0 or machine.here > 0:
             raise Started(machine.here)
         marks, run = run_of(machine)
-        self._record = Record(marks, run)
+        self._log = Record(marks, run)
 
     def step(self):
         """Performs one execution or passes it over, and returns the move."""
-        run = self._record.run
+        run = self._log.run
         if run.is_through():
             raise AtEnd(run.spot)
-        return self._record.step()
+        return self._log.step()
 
     def fail(self):
         """Begins a new attempt."""
-        self._record.fail()
+        self._log.fail()
 
     def finish(self):
         """Makes steps up to the end."""
         # What meets an error in a copy has changed nothing here.
-        ahead = self._record.copy()
+        ahead = self._log.copy()
         while not ahead.run.is_through():
             ahead.step()
-        self._record = ahead
+        self._log = ahead
 
     def machine(self):
         """A copy of the machine."""
-        return machine_of(self._record.marked, self._record.run.copy())
+        return machine_of(self._log.marked, self._log.run.copy())
 
     def text(self):
         """What was written so far."""
-        return "".join([line + "\n" for line in self._record.written])
+        return "".join([line + "\n" for line in self._log.written])
 
 
 def recover(job, marks, values, arguments, text, taken=()):
@@ -52,6 +52,6 @@ def resume(job, marks, values, arguments, text, taken=()):
     found = Journal(Machine(job, marks, values, arguments, taken))
     if not isinstance(text, str):
         raise InvalidText(text)
-    found._record.follow(text)
-    found._record.go_on(taken)
+    found._log.follow(text)
+    found._log.go_on(taken)
     return found

@@ -4,6 +4,7 @@ import ast
 import builtins
 import importlib
 import inspect
+import re
 import unittest
 from pathlib import Path
 
@@ -169,6 +170,107 @@ class TestNames(unittest.TestCase):
                 self.assertNotIsInstance(node, (ast.GeneratorExp, ast.Lambda, ast.AnnAssign, ast.Assert, ast.Global), path)
                 if isinstance(node, ast.arg):
                     self.assertIsNone(node.annotation, path)
+
+
+# What L12 bars: words from whole files, names with these beginnings, and these names.
+BARRED_WORD = re.compile(r"\b(_wall|_WallAttr)\b")
+BARRED_WALL = re.compile(r"_wall.*")
+BARRED_NAME = re.compile(r"(_pe_|_dcw_|_enum_|_cm_|_twin_re_|_lay_|_law_|_stub_|_sre|_WallAttr).*"
+                         r"|(_cold|_tuplegetter|_outside|_record|_written_out|_member_names)[0-9_]*")
+# Names as L12 has them: one underscore ahead at most, or two around the name of a method of L5.
+PLAIN_NAME = re.compile(r"_?[A-Za-z][A-Za-z0-9_]*|_|__[a-z]+__", re.ASCII)
+
+
+def strings_in(value):
+    """The strings that a field of a syntax tree has, itself or in its list."""
+    return [one for one in (value if isinstance(value, list) else [value]) if isinstance(one, str)]
+
+
+def names_of(node):
+    """The names that a node of a syntax tree has itself."""
+    if isinstance(node, ast.Constant):
+        return []
+    if isinstance(node, ast.Assign) and "__slots__" in [ast.unparse(target) for target in node.targets]:
+        return [part.value for part in ast.walk(node.value) if isinstance(part, ast.Constant)]
+    words = [word for _, value in ast.iter_fields(node) for word in strings_in(value)]
+    return [name for word in words for name in word.split(".")]
+
+
+def members_of(tree):
+    """The nodes that name attributes or methods."""
+    classes = [node for node in ast.walk(tree) if isinstance(node, ast.ClassDef)]
+    methods = [part for node in classes for part in node.body]
+    return methods + [node for node in ast.walk(tree) if isinstance(node, ast.Attribute)]
+
+
+def barred_names(text):
+    """The words and names of the text of a file that L12 bars."""
+    tree = ast.parse(text)
+    members = members_of(tree)
+    found = BARRED_WORD.findall(text)
+    for node in ast.walk(tree):
+        for name in names_of(node):
+            is_wall = BARRED_WALL.fullmatch(name) and node not in members
+            if is_wall or BARRED_NAME.fullmatch(name) or not PLAIN_NAME.fullmatch(name):
+                found.append(name)
+    return found
+
+
+# Texts in which NAME is a name, one for each way in which a file can have one.
+PLACES_OF_NAMES = (
+    "NAME = 1", "def NAME():\n    pass", "class NAME:\n    pass", "def f(NAME):\n    pass", "def f(*NAME):\n    pass",
+    "def f(**NAME):\n    pass", "def f(*, NAME=1):\n    pass", "f(NAME=1)", "f(NAME)", "for k, (NAME, j) in xs:\n    pass",
+    "ys = [NAME for NAME in xs]", "first, *NAME = xs", "f = lambda NAME: 1", "with a as NAME:\n    pass",
+    "try:\n    pass\nexcept ValueError as NAME:\n    pass", "def f():\n    global k, NAME",
+    "def f():\n    k = 0\n    def g():\n        nonlocal k, NAME", "match x:\n    case NAME:\n        pass",
+    "match x:\n    case [a, *NAME]:\n        pass", "match x:\n    case Box(NAME=1):\n        pass",
+    "from retrysafe.NAME import a", "from retrysafe.jobs import NAME", "from retrysafe.jobs import a as NAME",
+    "x = f'{NAME}'", "def f(k: NAME):\n    pass",
+)
+# The same for attributes and methods.
+PLACES_OF_MEMBERS = (
+    "self.NAME = 1", "x = a.NAME.step()", "a[0].NAME += 1", "x = f'{a.NAME}'", "class Box:\n    def NAME(self):\n        pass",
+)
+BARRED_EVERYWHERE = (
+    "_pe_x", "_dcw_", "_enum_x", "_cm_x", "_twin_re_x", "_lay_x", "_law_x", "_stub_x", "_sre", "_srex", "_WallAttr",
+    "_WallAttrs", "_cold", "_tuplegetter", "_outside", "_record", "_written_out", "_member_names", "_cold1", "_record_",
+    "_record2", "_outside_2", "__x", "__record", "_1",
+)
+ALLOWED = ("_", "_log", "record", "records", "_records", "Record", "cold", "_colder", "_wal", "_enum", "x_record", "__init__")
+
+
+class TestBarredNames(unittest.TestCase):
+    def test_no_file_has_a_name_that_is_barred(self):
+        for path in files():
+            self.assertEqual(barred_names(path.read_text()), [], path)
+            self.assertEqual(barred_names(path.stem), [], path)
+
+    def test_barred_names_are_found_wherever_they_stand(self):
+        for name in BARRED_EVERYWHERE:
+            for place in PLACES_OF_NAMES + PLACES_OF_MEMBERS:
+                text = place.replace("NAME", name)
+                self.assertIn(name, barred_names(text), text)
+            self.assertIn(name, barred_names(f"class Box:\n    __slots__ = ('{name}', 'n')"))
+
+    def test_names_with_a_wall_are_found_but_for_attributes_and_methods(self):
+        for place in PLACES_OF_NAMES:
+            text = place.replace("NAME", "_walls")
+            self.assertIn("_walls", barred_names(text), text)
+        for place in PLACES_OF_MEMBERS:
+            text = place.replace("NAME", "_walls")
+            self.assertEqual(barred_names(text), [], text)
+
+    def test_barred_words_are_found_in_comments_and_strings(self):
+        for word in ("_wall", "_WallAttr"):
+            for text in (f"# a {word} here", f"x = 'a {word}'", f'"""a {word}."""', f"self.{word} = 1"):
+                self.assertIn(word, barred_names(text), text)
+
+    def test_other_names_are_not_found(self):
+        for name in ALLOWED:
+            for place in PLACES_OF_NAMES + PLACES_OF_MEMBERS:
+                text = place.replace("NAME", name)
+                self.assertEqual(barred_names(text), [], text)
+        self.assertEqual(barred_names("# a _record\nx = 'a _record'"), [])
 
 
 if __name__ == "__main__":
